@@ -1,0 +1,1 @@
+"""Bothreed: patterns of texts with and, or and not."""
