@@ -16,6 +16,12 @@ def left(pattern, sign):
     return behind(normal(pattern), sign)
 
 
+def left_of_each(letters, pattern):
+    """What left tells of a pattern for each letter; the form is found once for all of them."""
+    form = normal(pattern)
+    return [behind(form, sign) for sign in letters]
+
+
 def fits(letters, pattern, text):
     """Whether the text fits the pattern."""
     need_pattern(letters, pattern)

@@ -17,6 +17,12 @@ INTERFACE = {
     "leaving": {
         "empty": ["pattern"], "left": ["pattern", "sign"], "fits": ["letters", "pattern", "text"],
     },
+    "machines": {
+        "machine_of": ["letters", "pattern"], "room_of": ["letters", "machine", "room", "text"],
+        "parting": ["letters", "machine", "room", "other"],
+    },
+    "telling": {"told_alike": ["letters", "one", "other"]},
+    "texts": {"shown": ["pattern"], "read": ["letters", "text"]},
 }
 
 # L8, without what only __main__.py may use.
@@ -24,6 +30,9 @@ BUILTINS = set("""
 len range enumerate zip min max sum abs sorted reversed int str bool bytes list tuple dict set frozenset
 isinstance ord repr any all divmod pow ValueError TypeError KeyError IndexError LookupError
 """.split())
+
+# L25, as far as this package has a use for it.
+METHODS = set("append bit_length extend index items join pop setdefault".split())
 
 # L6, as far as this package has a use for it.
 STATEMENTS = (
@@ -119,6 +128,47 @@ class Words(unittest.TestCase):
             for node in ast.walk(tree):
                 if isinstance(node, ast.Name) and isinstance(node.ctx, ast.Load):
                     self.assertIn(node.id, bound | BUILTINS, (name, node.lineno))
+
+
+class Classes(unittest.TestCase):
+    def test_own_names_are_no_names_of_builtin_values(self):
+        taken = {name for kind in (str, int, list, dict, set, tuple, bytes) for name in dir(kind)}
+        for name, methods, attributes in classes():
+            for own in methods | attributes:
+                self.assertNotIn(own, (taken | set(dir(builtins))) - {"__init__"}, name)
+            self.assertFalse(methods & attributes, name)
+
+    def test_only_own_methods_and_those_of_the_list_are_called(self):
+        own = {method for _, methods, _ in classes() for method in methods}
+        for name, source in sources().items():
+            for node in ast.walk(ast.parse(source)):
+                if isinstance(node, ast.Call) and isinstance(node.func, ast.Attribute):
+                    self.assertIn(node.func.attr, own | METHODS, (name, node.lineno))
+
+    def test_each_attribute_is_set_when_the_object_is_created(self):
+        for name, source in sources().items():
+            for node in ast.walk(ast.parse(source)):
+                if isinstance(node, ast.ClassDef) and node.bases == []:
+                    first = node.body[1]
+                    self.assertEqual(getattr(first, "name", None), "__init__", (name, node.name))
+                    self.assertEqual(own_attributes(first), own_attributes(node), (name, node.name))
+
+
+def classes():
+    """Each class with the names of its methods and of its attributes."""
+    found = []
+    for source in sources().values():
+        for node in ast.walk(ast.parse(source)):
+            if isinstance(node, ast.ClassDef):
+                methods = {part.name for part in node.body if isinstance(part, ast.FunctionDef)}
+                found.append((node.name, methods, own_attributes(node)))
+    return found
+
+
+def own_attributes(tree):
+    """The names of what is assigned to an object's own attributes."""
+    return {node.attr for node in ast.walk(tree)
+            if isinstance(node, ast.Attribute) and isinstance(node.ctx, ast.Store)}
 
 
 class Interface(unittest.TestCase):
